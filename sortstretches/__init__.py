@@ -1,0 +1,1 @@
+"""Scripts that sort stretches of a row."""
