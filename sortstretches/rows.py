@@ -4,13 +4,18 @@ from sortstretches.checks import check_arrangement, check_sized_script
 from sortstretches.errors import UnequalSizes
 
 
-def run(row, commands):
-    """Return the row that a script makes of a row."""
-    check_sized_script(len(row), commands)
+def sort_stretches(row, commands):
+    """Return the row that a script makes of a row, both of which have been checked."""
     present = list(row)
     for first, last in commands:
         present[first - 1:last] = sorted(present[first - 1:last])
     return present
+
+
+def run(row, commands):
+    """Return the row that a script makes of a row."""
+    check_sized_script(len(row), commands)
+    return sort_stretches(row, commands)
 
 
 def stages(row, commands):

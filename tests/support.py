@@ -6,7 +6,7 @@ import itertools
 import random
 import unittest
 
-from sortstretches.errors import InvalidCommand, InvalidRow, SortError
+from sortstretches.errors import InvalidCommand, InvalidRow, InvalidSize, SortError
 
 GREAT = 10 ** 30
 
@@ -93,9 +93,30 @@ def scripts_of_all_effects(size):
     return found
 
 
+def scripts_to_try(size):
+    """Return scripts for a size: one for each effect, some with commands that do nothing."""
+    source = source_of(size)
+    found = list(scripts_of_all_effects(size).values())
+    found += [[(1, 1)], [(size, size), (1, size), (1, size)]]
+    found += [random_script(source, size, length) for length in range(1, 9) for _ in range(3)]
+    return found + [random_short_script(source, size, length, 2) for length in range(1, 9)]
+
+
+def wide_scripts():
+    """Return scripts of 200 commands for 60 places, of short and of long stretches."""
+    source = source_of(60)
+    return [random_short_script(source, 60, 200, longest) for longest in (2, 3, 4, 6, 60)]
+
+
 def random_script(source, size, length):
     """Return a script of so many commands for a size."""
     return [tuple(sorted([source.randint(1, size), source.randint(1, size)])) for _ in range(length)]
+
+
+def random_short_script(source, size, length, longest):
+    """Return a script of so many commands for a size, each of at most so many places."""
+    starts = [source.randint(1, size) for _ in range(length)]
+    return [(i, source.randint(i, min(size, i + longest - 1))) for i in starts]
 
 
 def random_arrangement(source, size):
@@ -112,13 +133,17 @@ class CallTest(unittest.TestCase):
     """Checks what holds for every function of the interface, beside its answer."""
 
     def check(self, function, told, /, **arguments):
-        """Check that a function tells this, by position and by name.
+        """Check that a function tells this, by position and by name."""
+        self.check_fits(function, lambda answer: self.check_same(answer, told), **arguments)
+
+    def check_fits(self, function, check_answer, /, **arguments):
+        """Check what a function tells, by position and by name.
 
         The answer is spoiled between the calls, so that a list that is kept or is not new shows.
         """
         before = copy.deepcopy(arguments)
         by_position = function(*arguments.values())
-        self.check_same(by_position, told)
+        check_answer(by_position)
         self.assertEqual(arguments, before)
         if isinstance(by_position, list):
             for inner in by_position:
@@ -127,7 +152,7 @@ class CallTest(unittest.TestCase):
             by_position.append("spoiled")
         self.assertEqual(arguments, before)
         by_name = function(**dict(reversed(list(arguments.items()))))
-        self.check_same(by_name, told)
+        check_answer(by_name)
         self.assertEqual(arguments, before)
 
     def check_same(self, told, wanted):
@@ -147,11 +172,22 @@ class CallTest(unittest.TestCase):
             self.check_same(caught.exception.value, value)
         self.assertEqual(arguments, before)
 
-    def check_script_errors(self, function, /, **arguments):
-        """Check the Script check of a function whose other arguments are for three places."""
+    def check_script_errors(self, function, name="commands", /, **arguments):
+        """Check the Script check of a function whose other arguments are for three places.
+
+        The script stands last, or where a script is given in its place.
+        """
         for commands, index in WRONG_SCRIPTS_OF_THREE:
             with self.subTest(commands=commands):
-                self.check_error(function, InvalidCommand, index, **arguments, commands=commands)
+                self.check_error(function, InvalidCommand, index, **{**arguments, name: commands})
+
+    def check_size_errors(self, function, /, **scripts):
+        """Check the Size check of a function of a size and scripts; it comes before each Script check."""
+        for size in (0, -1, -7, -GREAT):
+            for commands in ([], [(1, 1)], [(0, 0)], [(2, 1)], [(1, 2), (GREAT, 1)]):
+                with self.subTest(size=size, commands=commands):
+                    self.check_error(
+                        function, InvalidSize, size, size=size, **{name: commands for name in scripts})
 
     def check_arrangement_errors(self, function, name, /, **others):
         """Check the Arrangement check of a function's argument; the others stand behind it."""

@@ -17,6 +17,25 @@ EFFECTS = """
 [[2, 1, 3], [10, 20, 30], [1, 2, 3], [1, 2, 3], [3, 2, 1]]
 """
 
+SCRIPTS = """
+>>> from sortstretches.scripts import idle_commands, parting_row, same_scripts, trimmed
+>>> [same_scripts(3, [(1, 2), (2, 3), (1, 2)], [(1, 3)]), idle_commands(4, [(1, 3), (2, 3), (2, 4), (3, 3)]), trimmed(4, [(1, 3), (2, 3), (1, 4)]), parting_row(3, [(1, 3)], [(2, 3), (1, 3)])]
+[True, [1, 3], [(1, 3), (1, 4)], None]
+"""
+
+ORDERS = """
+>>> from sortstretches.orders import sorts_at_least_as_far, worst_distance, worst_inversions
+>>> [sorts_at_least_as_far(3, [(1, 2), (2, 3)], [(2, 3)]), worst_inversions(4, [(1, 2), (3, 4)]), worst_distance(4, [(1, 2), (3, 4)])]
+[True, 4, 2]
+"""
+
+BACKWARD = """
+>>> from sortstretches.backward import gets_sorted, greatest_before, greatest_row, is_result
+>>> script = [(1, 2), (2, 3)]
+>>> [greatest_row(3, script), gets_sorted([2, 3, 1], script), gets_sorted([5, 5, 5], []), greatest_before(script, [2, 1, 3]), is_result([2, 1, 3], script), is_result([1, 3, 2], script)]
+[[3, 1, 2], False, True, [3, 2, 1], True, False]
+"""
+
 README = os.path.join(os.path.dirname(os.path.abspath(__file__)), os.pardir, "README.md")
 
 
@@ -34,6 +53,15 @@ class ExamplesTest(unittest.TestCase):
 
     def test_effects(self):
         self.check_examples(EFFECTS, "effects", 3)
+
+    def test_scripts(self):
+        self.check_examples(SCRIPTS, "scripts", 2)
+
+    def test_orders(self):
+        self.check_examples(ORDERS, "orders", 2)
+
+    def test_backward(self):
+        self.check_examples(BACKWARD, "backward", 3)
 
     def test_readme(self):
         with open(README, encoding="utf-8") as file:
