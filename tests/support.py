@@ -79,6 +79,33 @@ def plain_is_at_most(first, second):
         for p in places for q in places)
 
 
+def plain_inversions(row):
+    """Count the pairs of places that descend."""
+    return len([1 for i, j in itertools.combinations(range(len(row)), 2) if row[i] > row[j]])
+
+
+def sorts_all(size, commands):
+    """Tell whether a script sorts every arrangement of a size, as the document words it."""
+    return all(plain_run(row, commands) == sorted(row) for row in arrangements(size))
+
+
+def shortest_exchange_scripts(size):
+    """Return scripts of commands (i, i + 1): one of the shortest ones for each thing that such scripts do.
+
+    They ascend in length.
+    """
+    start = tuple(tuple(row) for row in arrangements(size))
+    found = {start: []}
+    waiting = [start]
+    for rows in waiting:
+        for i in range(1, size):
+            made = tuple(tuple(plain_run(list(row), [(i, i + 1)])) for row in rows)
+            if made not in found:
+                found[made] = found[rows] + [(i, i + 1)]
+                waiting.append(made)
+    return list(found.values())
+
+
 def scripts_of_all_effects(size):
     """Return a dict that tells for each arrangement, as a tuple, a script that has this effect."""
     start = tuple(range(size, 0, -1))
@@ -181,13 +208,18 @@ class CallTest(unittest.TestCase):
             with self.subTest(commands=commands):
                 self.check_error(function, InvalidCommand, index, **{**arguments, name: commands})
 
-    def check_size_errors(self, function, /, **scripts):
-        """Check the Size check of a function of a size and scripts; it comes before each Script check."""
+    def check_size_errors(self, function, /, **others):
+        """Check the Size check of a function of a size, scripts, and what else stands behind them.
+
+        It comes before each Script check.
+        """
         for size in (0, -1, -7, -GREAT):
             for commands in ([], [(1, 1)], [(0, 0)], [(2, 1)], [(1, 2), (GREAT, 1)]):
                 with self.subTest(size=size, commands=commands):
-                    self.check_error(
-                        function, InvalidSize, size, size=size, **{name: commands for name in scripts})
+                    arguments = {
+                        name: commands if isinstance(given, list) else given
+                        for name, given in others.items()}
+                    self.check_error(function, InvalidSize, size, size=size, **arguments)
 
     def check_arrangement_errors(self, function, name, /, **others):
         """Check the Arrangement check of a function's argument; the others stand behind it."""

@@ -36,6 +36,27 @@ BACKWARD = """
 [[3, 1, 2], False, True, [3, 2, 1], True, False]
 """
 
+COMPLETING = """
+>>> from sortstretches.completing import missing_ahead, missing_behind, one_ahead, one_behind
+>>> script = [(1, 2), (2, 3)]
+>>> [missing_behind(3, script), missing_ahead(3, script), one_behind(3, script), one_ahead(3, script), one_behind(3, [(1, 3)])]
+[1, 1, (1, 2), (2, 3), None]
+"""
+
+REPEATING = """
+>>> from sortstretches.repeating import blocks, count_unchanged, nth_unchanged, rounds, turns
+>>> script = [(1, 2), (2, 3)]
+>>> [rounds(3, script), blocks(5, [(1, 2), (2, 3), (4, 4)]), count_unchanged(4, script), nth_unchanged(4, script, 1), turns(1, 1, 2), turns(10 ** 20, 3, 10 ** 21)]
+[2, [(1, 3), (4, 4), (5, 5)], 4, [1, 2, 4, 3], 4, 66666666666666666670]
+"""
+
+COUNTING = """
+>>> from sortstretches.counting import count_sorted, count_sorted_bits, nth_sorted_bits, results
+>>> script = [(1, 2), (2, 3)]
+>>> [[count_sorted_bits(3, script, zeros) for zeros in range(4)], nth_sorted_bits(3, script, 1, 0), count_sorted(3, script), list(results(3, script))]
+[[1, 2, 3, 1], [0, 1, 1], 4, [[1, 2, 3], [2, 1, 3]]]
+"""
+
 README = os.path.join(os.path.dirname(os.path.abspath(__file__)), os.pardir, "README.md")
 
 
@@ -62,6 +83,15 @@ class ExamplesTest(unittest.TestCase):
 
     def test_backward(self):
         self.check_examples(BACKWARD, "backward", 3)
+
+    def test_completing(self):
+        self.check_examples(COMPLETING, "completing", 3)
+
+    def test_repeating(self):
+        self.check_examples(REPEATING, "repeating", 3)
+
+    def test_counting(self):
+        self.check_examples(COUNTING, "counting", 3)
 
     def test_readme(self):
         with open(README, encoding="utf-8") as file:

@@ -9,17 +9,12 @@ from sortstretches.orders import sorts_at_least_as_far, worst_distance, worst_in
 from sortstretches.rows import inversions, is_at_most, run
 from sortstretches.scripts import exchanges
 from tests.support import (
-    CallTest, arrangements, commands_for, plain_is_at_most, plain_run, random_arrangement,
-    random_script, random_short_script, scripts_of_all_effects, scripts_to_try, source_of,
-    wide_scripts)
+    CallTest, arrangements, commands_for, plain_inversions, plain_is_at_most, plain_run,
+    random_arrangement, random_script, random_short_script, scripts_of_all_effects,
+    scripts_to_try, source_of, wide_scripts)
 
 HOME = "sortstretches.orders"
 UP = [(i, i + 1) for i in range(1, 60)]
-
-
-def plain_inversions(row):
-    """Count the pairs that descend."""
-    return len([1 for i, j in itertools.combinations(range(len(row)), 2) if row[i] > row[j]])
 
 
 def plain_distance(row):
