@@ -80,7 +80,7 @@ def count_sorted(size, commands):
     many = {(): 1}
     for place in range(1, size + 1):
         many = longer_beginnings(many, sorted(before[:place]))
-    return sum(many.values())
+    return many[tuple(range(1, size + 1))]
 
 
 def next_arrangement(row):

@@ -4,6 +4,9 @@ import doctest
 import os
 import unittest
 
+from sortstretches.errors import Unreadable
+from sortstretches.readings import read_script
+
 ROWS = """
 >>> from sortstretches.rows import inversions, is_at_most, run, stages
 >>> [run([4, 3, 2, 1], [(1, 2), (2, 4)]), list(stages([3, 1, 2], [(2, 3), (1, 2)])), is_at_most([1, 3, 2], [3, 1, 2]), inversions([4, 3, 2, 1])]
@@ -57,6 +60,41 @@ COUNTING = """
 [[1, 2, 3, 1], [0, 1, 1], 4, [[1, 2, 3], [2, 1, 3]]]
 """
 
+HIDDEN = """
+>>> from sortstretches.effects import effect
+>>> from sortstretches.hidden import HiddenScript, find
+>>> hidden = HiddenScript(4, [(1, 3), (2, 4)])
+>>> [effect(4, find(hidden)) == effect(4, [(1, 3), (2, 4)]), len(find(hidden)), hidden.questions]
+[True, 5, 2]
+"""
+
+LIVE = """
+>>> from sortstretches.live import LiveRow, ScriptBook
+>>> live = LiveRow.descending(3)
+>>> live.perform((1, 2), (2, 3))
+>>> live.undo()
+>>> book = ScriptBook(3)
+>>> book.put('a', [(1, 2)])
+>>> book.put('b', [(1, 2), (2, 3)])
+>>> book.put('c', [(1, 2), (1, 2)])
+>>> [live.row, live.is_sorted, list(live.past()), list(book.classes()), book.best()]
+[[2, 3, 1], False, [[3, 2, 1], [2, 3, 1]], [['a', 'c'], ['b']], ['b']]
+"""
+
+TEXTS = """
+>>> from sortstretches.texts import show_script
+>>> show_script([(1, 3), (2, 4), (2, 4), (5, 5)])
+'1-3 2-4*2 5'
+"""
+
+# The interface shows the error of the last line as "raises Unreadable('3-1')".
+READINGS = """
+>>> from sortstretches.readings import read_script
+>>> read_script('3-1')
+Traceback (most recent call last):
+sortstretches.errors.Unreadable: 3-1
+"""
+
 README = os.path.join(os.path.dirname(os.path.abspath(__file__)), os.pardir, "README.md")
 
 
@@ -92,6 +130,22 @@ class ExamplesTest(unittest.TestCase):
 
     def test_counting(self):
         self.check_examples(COUNTING, "counting", 3)
+
+    def test_hidden(self):
+        self.check_examples(HIDDEN, "hidden", 4)
+
+    def test_live(self):
+        self.check_examples(LIVE, "live", 9)
+
+    def test_texts(self):
+        self.check_examples(TEXTS, "texts", 2)
+
+    def test_readings(self):
+        self.check_examples(READINGS, "readings", 2)
+        with self.assertRaises(Unreadable) as caught:
+            read_script('3-1')
+        self.assertEqual(repr(caught.exception), "Unreadable('3-1')")
+        self.assertEqual(caught.exception.value, '3-1')
 
     def test_readme(self):
         with open(README, encoding="utf-8") as file:
